@@ -1,0 +1,1 @@
+"""Words, rules, the ways between words, and the squares that fill them."""
