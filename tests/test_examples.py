@@ -1,0 +1,49 @@
+"""The examples of the document, as they stand there."""
+
+import unittest
+
+from helpers import Case
+from wayfill.down import down_way
+from wayfill.errors import BadText
+from wayfill.overlaps import list_overlaps
+from wayfill.rules import Rules, find_weights, format_rules, parse_rules
+from wayfill.steps import steps_at
+from wayfill.ways import format_way
+from wayfill.whole import kernel_rows, reduce_rows
+from wayfill.words import compare_words, places_of
+
+
+class TestExamples(Case):
+
+    def test_words(self):
+        self.assertEqual(compare_words("ab", [1, 1], "ba", "ab"), 1)
+        self.assertEqual(compare_words("ab", [3, 1], "a", "bb"), 1)
+        self.assertEqual(places_of("aa", "aaa"), [0, 1])
+        self.assertEqual(places_of("", "ab"), [0, 1, 2])
+
+    def test_whole(self):
+        self.assertEqual(reduce_rows([[2, 4], [1, 2]], width=2)[0], [[1, 2]])
+        self.assertEqual(kernel_rows([[2, 4], [1, 2]], width=2), [[-2, 1]])
+
+    def test_rules(self):
+        self.assertEqual(find_weights("ab", [("R1", "a", "bb")]), [3, 1])
+        self.assertEqual(format_rules(Rules("ab", [("R1", "ab", "")], weights=[1, 2])),
+                         "letters ab\nweights 1 2\nrule R1 ab -> -")
+        self.refuses(BadText(2), parse_rules, "letters ab\nweights 1")
+
+    def test_steps(self):
+        self.assertEqual(steps_at(Rules("a", [("R1", "aa", "a")]), "aa"),
+                         [(1, "R1", 0), (-1, "R1", 0), (-1, "R1", 1)])
+
+    def test_ways(self):
+        self.assertEqual(format_way(("aaa", ((1, "R1", 0), (-1, "R1", 1)))), "aaa R1+0 R1-1")
+
+    def test_down(self):
+        self.assertEqual(down_way(Rules("ab", [("R1", "ba", "ab")]), "bab"), ("bab", ((1, "R1", 0),)))
+
+    def test_overlaps(self):
+        self.assertEqual(list_overlaps(Rules("a", [("R1", "aa", "a")])), [("aaa", (1, "R1", 0), (1, "R1", 1))])
+
+
+if __name__ == "__main__":
+    unittest.main()
