@@ -79,7 +79,8 @@ class TestParse(Case):
     def test_the_form_of_a_rule(self):
         for line in ["", "rule", "rule R1", "rule R1 b", "rule R1 b ->", "rule R1 b -> ", "rule R1 b a",
                      "rule R1 b - a", "rule R1 b = a", "rule R1 b -> a ", " rule R1 b -> a", "rule  R1 b -> a",
-                     "rule R1  b -> a", "rule R1 b  -> a", "rule R1 b ->  a", "rule R1 b -> a a", "rules R1 b -> a", "R1 b -> a",
+                     "rule R1  b -> a", "rule R1 b  -> a", "rule R1 b ->  a", "rule R1 b -> a a", "rules R1 b -> a",
+                     "R1 b -> a",
                      "rule R1  -> a", "weights 1 2", "rule R1 b->a", "rule R1 -> b a"]:
             self.refuses(BadText(3), parse_rules, HEAD + "\n" + line)
             self.refuses(BadText(3), parse_rules, HEAD + "\n" + line + "\n?")
