@@ -1,13 +1,11 @@
 """Points 2 to 5 for all functions: values, arguments, the order of errors, judges."""
 
-import copy
 import inspect
-import itertools
 import random
 import unittest
 
 import wayfill
-from helpers import Case
+from helpers import Calls, Case, Orders, spoil
 from wayfill import down, overlaps, rules, steps, ways, whole, words
 from wayfill.errors import BadLetters, BadName, BadNumber, BadRow, BadStep, BadText, BadWeights, BadWord, TooLong
 from wayfill.errors import TooMany, Unknown, WayfillError
@@ -83,25 +81,9 @@ CALLS = [
 ]
 
 
-def positions_and_names(call, given):
-    """The arguments that may be passed by position, and those that may not."""
-    keyword = [name for name, parameter in inspect.signature(call).parameters.items()
-               if parameter.kind == inspect.Parameter.KEYWORD_ONLY]
-    by_position = [given[name] for name in given if name not in keyword]
-    return by_position, {name: given[name] for name in keyword}
+class TestCalls(Calls, Case):
 
-
-def spoil(value):
-    """Change every list in the value."""
-    if isinstance(value, (list, tuple)):
-        for part in value:
-            spoil(part)
-    if isinstance(value, list):
-        value.append("spoiled")
-        value.reverse()
-
-
-class TestCalls(Case):
+    CALLS = CALLS
 
     def test_headings(self):
         for call, given in CALLS:
@@ -115,39 +97,6 @@ class TestCalls(Case):
                 if star and name != "width":
                     default = 3 if name == "most" else None
                 self.assertEqual(parameter.default, default, (call, name))
-
-    def test_arguments_by_position_and_by_name(self):
-        for call, given in CALLS:
-            by_position, named = positions_and_names(call, given)
-            self.assertEqual(call(*by_position, **named), call(**given), call)
-            if named:
-                with self.assertRaises(TypeError):
-                    call(*by_position, *named.values())
-
-    def test_arguments_stay_as_they_were(self):
-        for call, given in CALLS:
-            before = copy.deepcopy(given)
-            call(**given)
-            self.assertEqual(given, before, call)
-
-    def test_the_same_call_twice(self):
-        for call, given in CALLS:
-            self.assertEqual(call(**given), call(**given), call)
-
-    def test_every_returned_list_is_a_new_one(self):
-        for call, given in CALLS:
-            first = call(**given)
-            kept = copy.deepcopy(first)
-            before = copy.deepcopy(given)
-            spoil(first)
-            self.assertEqual(given, before, call)
-            self.assertEqual(call(**given), kept, call)
-
-    def test_modules_define_what_they_list(self):
-        for call, given in CALLS:
-            if not inspect.ismethod(call):
-                self.assertEqual(call.__module__.split(".")[0], "wayfill")
-                self.assertIs(getattr(inspect.getmodule(call), call.__name__), call)
 
     def test_the_package_itself_has_no_names(self):
         names = [name for name in vars(wayfill) if not name.startswith("__")]
@@ -224,20 +173,9 @@ ORDERS = [
 ]
 
 
-class TestOrderOfErrors(Case):
+class TestOrderOfErrors(Orders, Case):
 
-    def test_the_first_wrong_argument_is_told(self):
-        for call, parts, last_name in ORDERS:
-            choices = [range(min(len(part), 2)) for part in parts]
-            for wrong in itertools.product(*choices):
-                given = [part[at] for part, at in zip(parts, wrong)]
-                named = {}
-                if last_name is not None:
-                    named[last_name] = given.pop()
-                if 1 in wrong:
-                    self.refuses(parts[wrong.index(1)][2], call, *given, **named)
-                else:
-                    call(*given, **named)
+    ORDERS = ORDERS
 
     def test_whole(self):
         for call in [whole.reduce_rows, whole.kernel_rows, whole.row_rank, whole.independent_rows]:

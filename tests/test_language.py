@@ -160,6 +160,8 @@ class TestLanguage(unittest.TestCase):
         for node, place in calls:
             if getattr(node.func, "id", getattr(node.func, "attr", None)) in TAKERS | {"join"}:
                 allowed.update(node.args)
+            if getattr(node.func, "id", None) == "reversed" and getattr(node.args[0], "func", None) is not None:
+                allowed.update([one for one in node.args if getattr(one.func, "id", None) == "range"])
         for node, place in calls:
             if getattr(node.func, "id", getattr(node.func, "attr", None)) in AT_ONCE:
                 self.assertTrue(any(node is other for other in allowed), place)

@@ -1,7 +1,7 @@
 """Going down from words, and the words below a word."""
 
 from wayfill.errors import TooLong, TooMany, Unjoined
-from wayfill.steps import after_step, fitting_steps, turn_step
+from wayfill.steps import after_step, fitting_steps, turn_steps
 from wayfill.words import WAY, WORD, WORDS, check_word, sort_words
 
 
@@ -18,7 +18,7 @@ def _first_step(rules, word):
     return 1, name, place
 
 
-def _go_down(rules, word):
+def go_down(rules, word):
     """The steps of the down way of a word that was examined, and its last word."""
     steps = []
     step = _first_step(rules, word)
@@ -45,14 +45,14 @@ def is_last(rules, word):
 def down_way(rules, word):
     """The down way of the word."""
     check_word(rules.letters, word)
-    steps, last = _go_down(rules, word)
+    steps, last = go_down(rules, word)
     return word, steps
 
 
 def last_word(rules, word):
     """The last word, which the down way of the word reaches."""
     check_word(rules.letters, word)
-    steps, last = _go_down(rules, word)
+    steps, last = go_down(rules, word)
     return last
 
 
@@ -67,13 +67,13 @@ def normal_way(rules, one, other):
     """The normal way from the first word to the second one."""
     check_word(rules.letters, one)
     check_word(rules.letters, other)
-    down, last = _go_down(rules, one)
-    other_down, other_last = _go_down(rules, other)
+    down, last = go_down(rules, one)
+    other_down, other_last = go_down(rules, other)
     if last != other_last:
         raise Unjoined(last, other_last)
     if len(down) + len(other_down) > WAY:
         raise TooLong()
-    return one, down + tuple([turn_step(step) for step in reversed(other_down)])
+    return one, down + turn_steps(other_down)
 
 
 def _results_on(rules, word):

@@ -117,6 +117,31 @@ class Rules:
                 and self._weights == other._weights and self._rows == other._rows)
 
 
+def with_rule(rules, row):
+    """The rules with the row as the last one, or None if they cannot have it."""
+    try:
+        return Rules(rules.letters, rules.rows + [row], weights=rules.weights)
+    except WayfillError:
+        return None
+
+
+def without_rule(rules, name):
+    """The rules without the one of this name."""
+    return Rules(rules.letters, [row for row in rules if row[0] != name], weights=rules.weights)
+
+
+def free_names(mark, many, taken):
+    """The first so many names of the mark and a number from 1 on that are not taken."""
+    names = []
+    number = 1
+    while len(names) < many:
+        name = f"{mark}{number}"
+        if name not in taken:
+            names.append(name)
+        number += 1
+    return names
+
+
 def orient(letters, rows, *, weights=None):
     """The rules with the greater side of each row on the left, and the names of the rows that this turned."""
     check_letters(letters)
@@ -201,15 +226,6 @@ def _read_rule(letters, line, at):
     return pieces[1], read_word(letters, pieces[2], at), read_word(letters, pieces[4], at)
 
 
-def _with_line(rules, line, at):
-    """The rules with that of the line as the last one."""
-    row = _read_rule(rules.letters, line, at)
-    try:
-        return Rules(rules.letters, rules.rows + [row], weights=rules.weights)
-    except WayfillError:
-        raise BadText(at) from None
-
-
 def parse_rules(text):
     """The rules with this text."""
     lines = text.split("\n")
@@ -218,5 +234,7 @@ def parse_rules(text):
         raise BadText(2)
     rules = Rules(letters, [], weights=_read_weights(letters, lines[1]))
     for at, line in enumerate(lines[2:], start=3):
-        rules = _with_line(rules, line, at)
+        rules = with_rule(rules, _read_rule(letters, line, at))
+        if rules is None:
+            raise BadText(at)
     return rules

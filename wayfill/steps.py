@@ -68,6 +68,16 @@ def shift_step(step, by):
     return sign, name, place + by
 
 
+def turn_steps(steps):
+    """The steps in the opposite order, each turned about."""
+    return tuple([turn_step(step) for step in reversed(steps)])
+
+
+def shift_steps(steps, by):
+    """The steps with their places moved."""
+    return tuple([shift_step(step, by) for step in steps])
+
+
 def fitting_steps(rules, word, sign):
     """The steps of this sign that fit the word, in the step order."""
     found = []

@@ -1,7 +1,7 @@
 """Ways: a word and a row of steps from it, and what is made of ways."""
 
 from wayfill.errors import BadEnds, BadNumber, BadText, TooLong, WayfillError
-from wayfill.steps import after_step, checked_step, fits, shift_step, turn_step
+from wayfill.steps import after_step, checked_step, fits, shift_steps, turn_steps
 from wayfill.words import WAY, WORD, check_word, format_word, read_number, read_word
 
 
@@ -55,8 +55,7 @@ def join_ways(rules, one, other):
 
 def turn_way(rules, way):
     """The way turned about."""
-    end = way_end(rules, way)
-    return end, tuple([turn_step(step) for step in reversed(way[1])])
+    return way_end(rules, way), turn_steps(way[1])
 
 
 def set_way(rules, before, way, after):
@@ -67,8 +66,7 @@ def set_way(rules, before, way, after):
     around = len(before) + len(after)
     if max([len(word) for word in words]) + around > WORD:
         raise TooLong()
-    steps = tuple([shift_step(step, len(before)) for step in way[1]])
-    return before + way[0] + after, steps
+    return before + way[0] + after, shift_steps(way[1], len(before))
 
 
 def cut_way(rules, way, first, last):
