@@ -173,8 +173,9 @@ class TestWideFares(Case):
 
     def test_wrong_lengths(self):
         base, lefts, rights = self.sample(RULES)
-        wrong = [([1], lefts, rights), (base + [1], lefts, rights), (base, lefts[:1], rights), (base, lefts, rights[:1]),
-                 (base, lefts + [[1, 1]], rights), (base, lefts, rights + [[1, 1]]), (base, [[1], [1, 2]], rights),
+        wrong = [([1], lefts, rights), (base + [1], lefts, rights), (base, lefts[:1], rights),
+                 (base, lefts, rights[:1]), (base, lefts + [[1, 1]], rights),
+                 (base, lefts, rights + [[1, 1]]), (base, [[1], [1, 2]], rights),
                  (base, [[1, 2], [1, 2, 3]], rights), (base, lefts, [[1, 2], []]), (base, lefts, [[1] * 1000, [1, 2]]),
                  ([], [], []), (base, [[1], [1, 2, 3]], rights)]
         for fare in wrong:

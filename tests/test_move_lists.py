@@ -89,8 +89,9 @@ class TestListing(Case):
         self.assertEqual(swaps[:4], [("swap", 0, "Z", 0, 0, 1), ("swap", 0, "Z", 0, 0, -1), ("swap", 0, "B", 1, 0, 1),
                                      ("swap", 0, "B", 1, 1, 1)])
         grows = [move for move in moves if move[0] == "grow"]
+        words = way_words(RULES, way)
         self.assertEqual([move[1:] for move in grows],
-                         [(at, step) for at, word in enumerate(way_words(RULES, way)) for step in steps_at(RULES, word)])
+                         [(at, step) for at, word in enumerate(words) for step in steps_at(RULES, word)])
 
     def test_both_sides_of_an_exchange(self):
         moves = list_moves(RULES, [], ("baab", ((1, "E", 1), (-1, "E", 1))), steps=2)
@@ -129,7 +130,8 @@ class TestListing(Case):
         self.assertEqual([move for move in list_moves(rules, [], ("a" * 31, ()), steps=2) if move[2][0] == -1], [])
         self.assertEqual(len(list_moves(rules, [], ("a" * 30, ()), steps=2)), 29 + 31)
         square = ("S", ("", ()), ("", ((-1, "E", 0), (1, "E", 0))))
-        self.assertEqual([move for move in list_moves(rules, [square], ("a" * 31, ()), steps=2) if move[0] == "swap"], [])
+        moves = list_moves(rules, [square], ("a" * 31, ()), steps=2)
+        self.assertEqual([move for move in moves if move[0] == "swap"], [])
         way = ("b" + "a" * 30, ((1, "E", 1), (-1, "E", 0)))
         self.assertEqual(list_moves(RULES, [], way, steps=2), [])
 

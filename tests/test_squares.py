@@ -147,8 +147,9 @@ class TestAnswers(Case):
 
     def test_errors_in_order(self):
         self.refuses(BadSquare("Q1"), answering_leg, RULES, ("Q1", LONG_LEG, ("b", ())), ("?", ON, ON))
-        for overlap in [("?", ON, ON), ("baa", OVERLAP[2], OVERLAP[1]), ("baa", ON, (1, "R9", 0)), ("baab",) + OVERLAP[1:],
-                        ("baa", ON, (1, "E", -1)), ("baa", ON, (-1, "E", 1)), ("baa", (5, "R1", 0), (1, "E", 1))]:
+        for overlap in [("?", ON, ON), ("baa", OVERLAP[2], OVERLAP[1]), ("baa", ON, (1, "R9", 0)),
+                        ("baab",) + OVERLAP[1:], ("baa", ON, (1, "E", -1)), ("baa", ON, (-1, "E", 1)),
+                        ("baa", (5, "R1", 0), (1, "E", 1))]:
             self.refuses(BadOverlap(), answering_leg, RULES, SQUARE, overlap)
 
     def test_lacking_overlaps_in_order(self):
