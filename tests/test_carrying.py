@@ -153,6 +153,15 @@ class TestWritingOut(Case):
         self.assertEqual(write_out(RULES, self.STAIRS, ("bbbb", ((-1, "R2", 0),))), ("bbbb", ((-1, "R2", 0),)))
         self.assertEqual(carry_squares(RULES, self.STAIRS, []), [])
 
+    def test_reasons_within_reasons_that_are_far_too_long(self):
+        log = [("add", "N1", "b", "a", self.LONG)]
+        for at in range(2, 9):
+            back = ((1, f"N{at - 1}", 0), (-1, f"N{at - 1}", 0)) * 59
+            log.append(("add", f"N{at}", "b", "a", ("b", back + ((1, f"N{at - 1}", 0),))))
+        for name in ["N2", "N8"]:
+            self.refuses(TooLong(), write_out, RULES, log, ("b", ((1, name, 0),)))
+        self.assertEqual(len(write_out(RULES, log, ("b", ((1, "N1", 0),)))[1]), 40)
+
     def test_words_of_32_and_33_letters(self):
         # The reason of N1 visits a word with one letter more.
         way = ("a" * 30 + "b", ((1, "N1", 30),))
@@ -391,6 +400,10 @@ class TestCarriedFilling(Case):
         self.refuses(BadSquare("?"), carried_filling, RULES, LOG, wrong, ("?", ()))
         self.refuses(BadWord("?"), carried_filling, RULES, LOG, PLAIN, ("?", ()))
         self.refuses(Unknown("N1"), carried_filling, RULES, LOG, PLAIN, ("b", ((1, "N1", 0),)))
+        # All arguments are examined before the carried squares are formed.
+        many = [(f"S{at}", ("", ()), ("", ())) for at in range(39)]
+        self.refuses(BadWord("?"), carried_filling, RULES, LOG, many, ("?", ()))
+        self.refuses(TooMany(), carried_filling, RULES, LOG, many, ("a", ()))
 
     def test_carried_squares_are_formed_first(self):
         word = "a" * 31 + "b"

@@ -122,6 +122,9 @@ class TestDroppingLetters(ChangeCase):
     def test_letters(self):
         for letter in ["", "d", "ab", "bc", "C", "?"]:
             self.refused(RULES, ("drop letter", letter))
+        self.refused(Rules("abc", [("X", "ab", "c")]), ("drop letter", "ab"))
+        self.refused(Rules("abc", [("X", "ab", "")]), ("drop letter", "ab"))
+        self.refused(Rules("abc", [("X", "ab", "")]), ("drop letter", ""))
         # In more than one rule, or not alone.
         self.refused(RULES, ("drop letter", "a"))
         self.refused(RULES, ("drop letter", "b"))
@@ -503,6 +506,14 @@ class TestLists(ChangeCase):
         self.assertEqual(bring_along(self.RULES, changes[:3], middle), ("bababaa", ((1, "R1", 4),)))
         for call in [carry_along, bring_along]:
             self.assertEqual(call(self.RULES, [], ("ba", ((1, "R1", 0),))), ("ba", ((1, "R1", 0),)))
+
+    def test_a_rule_and_then_a_letter(self):
+        rules = Rules("abc", WITH_B.rows + [("C", "c", "")], weights=[2, 3, 5])
+        changes = [DROP_RULE, ("drop letter", "c")]
+        self.assertEqual(carry_along(rules, changes, ("cbaa", ((1, "B", 1), (1, "C", 0)))),
+                         ("baa", ((1, "R1", 0), (1, "R1", 1), (1, "E", 0))))
+        changes = [("add letter", "d", 9, "ba", "D"), ("add rule", "N", "da", "b", ("da", ((1, "D", 0), (1, "B", 0))))]
+        self.assertEqual(bring_along(rules, changes, ("dda", ((1, "N", 1), (1, "D", 0)))), ("babaa", ((1, "B", 2),)))
 
     def test_step_by_step(self):
         luck = random.Random(97)

@@ -221,10 +221,10 @@ class TestBounds(Case):
         return Rules("abcdef", list(rows) + further, weights=[99, 15, 14, 7, 3, 1])
 
     def test_a_reason_of_120_and_121_steps(self):
-        # Two steps of the reason are those of the overlap.
-        final, log = complete(self.stairs(("X", "aa", "b" * 6 + "cc"), ("Y", "aa", "a")))
+        # Two steps of the reason are those of the overlap; 59 or 60 and 59 steps go down.
+        final, log = complete(self.stairs(("X", "aa", "bbbc"), ("Y", "aa", "abbbc")))
         self.assertEqual((log[0][:4], len(log[0][4][1])), (("add", "N1", "a", ""), 120))
-        rules = self.stairs(("X", "aa", "b" * 7 + "c"), ("Y", "aa", "a"))
+        rules = self.stairs(("X", "aa", "bbbb"), ("Y", "aa", "abbbc"))
         self.refuses(TooLong(), complete, rules)
         self.refuses(TooMany(), complete, rules, most=0)
 

@@ -129,9 +129,9 @@ def _wide_row(rules, way):
     base = []
     lefts = []
     rights = []
+    words = way_words(rules, way)
     # A step and the same step turned about have the same words around them.
-    for word, after, step in zip(way_words(rules, way), way_words(rules, way)[1:], way[1]):
-        sign, name, place = step
+    for word, after, (sign, name, place) in zip(words, words[1:], way[1]):
         rank = rules.rank_of(name)
         top = word if sign == 1 else after
         base.append((rank, sign))
