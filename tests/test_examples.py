@@ -5,9 +5,11 @@ import unittest
 from helpers import Case
 from wayfill.down import down_way
 from wayfill.errors import BadText
+from wayfill.listing import class_number, class_table, count_last
 from wayfill.overlaps import list_overlaps
 from wayfill.rules import Rules, find_weights, format_rules, parse_rules
 from wayfill.steps import steps_at
+from wayfill.sums import Sum
 from wayfill.ways import format_way
 from wayfill.whole import kernel_rows, reduce_rows
 from wayfill.words import compare_words, places_of
@@ -43,6 +45,15 @@ class TestExamples(Case):
 
     def test_overlaps(self):
         self.assertEqual(list_overlaps(Rules("a", [("R1", "aa", "a")])), [("aaa", (1, "R1", 0), (1, "R1", 1))])
+
+    def test_listing(self):
+        rules = Rules("ab", [("R1", "ba", "ab")])
+        self.assertEqual((count_last(rules, most=3), class_number(rules)), ([1, 2, 3, 4], None))
+        self.assertEqual(class_table(Rules("a", [("R1", "aaa", "")])), (["", "a", "aa"], [[1], [2], [0]]))
+
+    def test_sums(self):
+        rules = Rules("ab", [("R1", "ba", "ab")])
+        self.assertEqual(list(Sum(rules, [(2, "ba"), (1, "ab"), (0, "a")])), [(3, "ab")])
 
 
 if __name__ == "__main__":

@@ -11,8 +11,8 @@ from wayfill.ways import check_way
 from wayfill.words import SQUARES, WAY
 
 
-def _spread(step, reasons):
-    """The steps that replace the step of a rule that has a reason."""
+def spread(step, reasons):
+    """The steps that replace the step of a rule that has a reason, by the names of the rules."""
     sign, name, place = step
     steps = reasons[name][1]
     return shift_steps(steps if sign == 1 else turn_steps(steps), place)
@@ -25,7 +25,7 @@ def _spread_all(steps, reasons):
     while waiting:
         step = waiting.pop()
         if step[1] in reasons:
-            waiting.extend(list(reversed(_spread(step, reasons))))
+            waiting.extend(list(reversed(spread(step, reasons))))
         else:
             done.append(step)
         # No reason is empty, so what is too long here stays too long.
