@@ -8,6 +8,7 @@ from wayfill.errors import BadText
 from wayfill.listing import class_number, class_table, count_last
 from wayfill.overlaps import list_overlaps
 from wayfill.rules import Rules, find_weights, format_rules, parse_rules
+from wayfill.script import format_script, parse_script
 from wayfill.steps import steps_at
 from wayfill.sums import Sum
 from wayfill.ways import format_way
@@ -54,6 +55,12 @@ class TestExamples(Case):
     def test_sums(self):
         rules = Rules("ab", [("R1", "ba", "ab")])
         self.assertEqual(list(Sum(rules, [(2, "ba"), (1, "ab"), (0, "a")])), [(3, "ab")])
+
+    def test_script(self):
+        self.assertEqual(parse_script("write :ba until last { on R1 first }"),
+                         [("write", "ba"), ("until", None, [("on", "R1", None)])])
+        self.refuses(BadText(5), parse_script, "repeat 2 { down")
+        self.assertEqual(format_script([("each", ["a", ""], [("down",)])]), "each :a : {\n  down\n}")
 
 
 if __name__ == "__main__":

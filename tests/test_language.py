@@ -16,8 +16,8 @@ FILES = sorted(path for path in PACKAGE.rglob("*") if path.is_file() and "__pyca
 NODES = set("""
 Module Expr ImportFrom alias FunctionDef arguments arg ClassDef Assign AugAssign If While For Return Raise Try
 ExceptHandler Pass Break Continue Constant Name Attribute Subscript Slice Call keyword BinOp UnaryOp BoolOp Compare
-IfExp List Tuple Dict ListComp DictComp comprehension Starred JoinedStr FormattedValue Load Store Add Sub Mult FloorDiv
-Mod USub And Or Not Eq NotEq Lt LtE Gt GtE Is IsNot In NotIn
+IfExp List Tuple Dict ListComp DictComp comprehension Starred JoinedStr FormattedValue Load Store Delete Del Add Sub
+Mult FloorDiv Mod USub And Or Not Eq NotEq Lt LtE Gt GtE Is IsNot In NotIn
 """.split())
 
 BUILTINS = set("""
@@ -80,7 +80,8 @@ class TestLanguage(unittest.TestCase):
         for node, place in self.each(ast.FunctionDef):
             self.assertLessEqual(node.end_lineno - node.lineno + 1, 40, place)
             self.assertIsNone(node.returns, place)
-            self.assertIn([getattr(mark, "id", mark) for mark in node.decorator_list], [[], ["property"]], place)
+            marks = [getattr(mark, "id", mark) for mark in node.decorator_list]
+            self.assertIn(marks, [[], ["property"], ["staticmethod"]], place)
             if node.name.startswith("__"):
                 self.assertIn(node.name, SPECIAL, place)
         for node, place in self.each(ast.arg):
@@ -88,13 +89,19 @@ class TestLanguage(unittest.TestCase):
 
     def test_module_level(self):
         for path, tree in TREES.items():
+            functions = []
             for node in tree.body:
+                if isinstance(node, ast.FunctionDef):
+                    functions.append(node.name)
                 self.assertIsInstance(node, (ast.Expr, ast.ImportFrom, ast.FunctionDef, ast.ClassDef, ast.Assign), path)
                 if isinstance(node, ast.Expr):
                     self.assertIsInstance(node.value, ast.Constant, path)
                 if isinstance(node, ast.Assign):
                     self.assertEqual([type(target) for target in node.targets], [ast.Name], path)
-                    ast.literal_eval(node.value)
+                    if isinstance(node.value, ast.Dict) and isinstance(node.value.values[0], ast.Name):
+                        self.assertTrue(all(value.id in functions for value in node.value.values), path)
+                    else:
+                        ast.literal_eval(node.value)
 
     def test_imports(self):
         reached = {}
@@ -150,7 +157,17 @@ class TestLanguage(unittest.TestCase):
                 self.assertIn(node.func.attr, METHODS | methods, place)
         for node, place in self.each(ast.Name):
             if hasattr(builtins, node.id):
-                self.assertIn(node.id, BUILTINS | {"property"}, place)
+                self.assertIn(node.id, BUILTINS | {"property", "staticmethod"}, place)
+
+    def test_attributes(self):
+        methods = {node.name for tree, _ in self.each(ast.ClassDef) for node in tree.body
+                   if isinstance(node, ast.FunctionDef)}
+        stored = {node.attr for node, _ in self.each(ast.Attribute) if isinstance(node.ctx, ast.Store)}
+        self.assertEqual(stored & methods, set())
+        for name in (stored | methods) - SPECIAL:
+            self.assertFalse(any(hasattr(kind, name) for kind in (str, int, list, dict, set, tuple, bytes)), name)
+        for node, place in self.each(ast.Attribute):
+            self.assertIn(node.attr, stored | methods | METHODS, place)
 
     def test_iterated_at_once(self):
         allowed = set()

@@ -247,24 +247,26 @@ def _grows(course):
     return found
 
 
-def _is_listed(course, move, most):
-    """Whether the move fits and its result has at most so many steps and no word that is too long."""
-    effect = _effect(course, move)
-    return effect is not None and _result(course, effect, most) is not None
-
-
-def course_moves(course, squares, most):
-    """All moves that fit the course and leave at most so many steps, in the move order."""
+def _candidates(course, squares, most):
+    """All moves that may fit the course and leave at most so many steps, in the move order."""
     many = len(course.track)
     moves = [("drop", at) for at in range(many)]
     moves.extend([("exchange", at, side) for at in range(many) for side in ("left", "right")])
     moves.extend(_swaps(course, squares, most))
     if many + 2 <= most:
         moves.extend(_grows(course))
+    return moves
+
+
+def next_ways(course, squares, most):
+    """All moves that fit the course and leave at most so many steps, in the move order, each with its result."""
     found = []
-    for move in moves:
-        if _is_listed(course, move, most):
-            found.append(move)
+    for move in _candidates(course, squares, most):
+        effect = _effect(course, move)
+        result = None if effect is None else _result(course, effect, most)
+        if result is not None:
+            words, track = result
+            found.append((move, (words[0], track)))
         if len(found) > MOVES:
             raise TooMany()
     return found
@@ -275,4 +277,4 @@ def list_moves(rules, squares, way, *, steps):
     course = _examined_course(rules, squares, way)
     if not 0 <= steps <= WAY:
         raise BadNumber(steps)
-    return course_moves(course, squares, steps)
+    return [move for move, result in next_ways(course, squares, steps)]
