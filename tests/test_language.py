@@ -159,6 +159,24 @@ class TestLanguage(unittest.TestCase):
             if hasattr(builtins, node.id):
                 self.assertIn(node.id, BUILTINS | {"property", "staticmethod"}, place)
 
+    def test_operators(self):
+        for node, place in self.each(ast.FunctionDef):
+            last = ast.unparse(node.body[-1])
+            if node.name == "__iter__":
+                self.assertRegex(last, r"^return iter\(self\._[a-z]+\)$", place)
+            elif node.name == "__len__":
+                self.assertRegex(last, r"^return len\(self\._[a-z]+\)$", place)
+            elif node.name == "__bool__":
+                self.assertRegex(last, r"^return bool\(self\._[a-z]+\)$", place)
+            elif node.name == "__eq__":
+                self.assertRegex(last, r"^return isinstance\(other, [A-Z][a-z]+\) and ", place)
+            elif node.name.startswith("__") and node.name != "__init__":
+                stored = [one for one in ast.walk(node) if isinstance(one, (ast.Attribute, ast.Subscript))
+                          and isinstance(one.ctx, ast.Store)]
+                self.assertEqual(stored, [], place)
+                self.assertEqual(ast.unparse(node.args), "self" if node.name == "__neg__" else
+                                 "self, " + node.args.args[-1].arg, place)
+
     def test_attributes(self):
         methods = {node.name for tree, _ in self.each(ast.ClassDef) for node in tree.body
                    if isinstance(node, ast.FunctionDef)}
