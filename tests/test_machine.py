@@ -7,15 +7,18 @@ import unittest
 from helpers import Case, spoil
 from wayfill.carrying import write_in
 from wayfill.completion import complete
-from wayfill.down import down_way, normal_way
-from wayfill.errors import BadSquare, BadText, Repeated, Stopped, TooMany
+from wayfill.down import down_way, is_last, normal_way
+from wayfill.errors import BadSquare, BadText, Repeated, Stopped, TooMany, WayfillError
 from wayfill.fill import fill_loop, settle
 from wayfill.machine import Machine
 from wayfill.moves import do_moves
 from wayfill.rules import Rules, format_rules
+from wayfill.script import format_script
 from wayfill.shorten import shorten
 from wayfill.squares import plain_squares
-from wayfill.ways import format_way, join_ways
+from wayfill.steps import fits
+from wayfill.ways import check_way, format_way, join_ways, turn_way, way_end
+from wayfill.words import is_word
 
 SORT = Rules("ab", [("R1", "ba", "ab"), ("E", "aa", "")])
 PLAIN = plain_squares(SORT)
@@ -400,6 +403,111 @@ class TestSimulated(Case):
                 self.assertEqual(error.path, (0,))
                 return None, None, None, at
         return machine.way, machine.moves, machine.shown, None
+
+
+class Halt(Exception):
+    """The run fails at a path."""
+
+
+class Interpreter:
+    """Points 114 and 115 by the public functions, for a few statements and all loops."""
+
+    def __init__(self):
+        self.way, self.shown, self.deeds = ("", ()), [], 0
+
+    def deed(self, many, path):
+        if self.deeds + many > 400:
+            raise Halt(path)
+        self.deeds += many
+
+    def run(self, statements, path=()):
+        for at, (kind, *rest) in enumerate(statements):
+            here = path + (at,)
+            if kind == "repeat":
+                for _ in range(rest[0]):
+                    self.deed(1, here)
+                    self.run(rest[1], here)
+            elif kind == "each":
+                for word in rest[0]:
+                    self.deed(1, here)
+                    if not is_word("ab", word):
+                        raise Halt(here)
+                    self.way = (word, ())
+                    self.run(rest[1], here)
+            elif kind == "until":
+                self.until(*rest, here)
+            else:
+                self.deed(20 if kind == "settle" else 1, here)
+                try:
+                    self.way = self.after(kind, rest)
+                    check_way(SORT, self.way)
+                except WayfillError:
+                    raise Halt(here) from None
+
+    def until(self, word, body, here):
+        if word is not None and not is_word("ab", word):
+            raise Halt(here)
+        while not (is_last(SORT, self.word()) if word is None else self.word() == word):
+            self.deed(1, here)
+            self.run(body, here)
+
+    def word(self):
+        return way_end(SORT, self.way)
+
+    def after(self, kind, rest):
+        """The way after a statement."""
+        if kind == "write":
+            return rest[0], ()
+        if kind == "settle":
+            return normal_way(SORT, self.way[0], self.word())
+        if kind == "turn":
+            return turn_way(SORT, self.way)
+        if kind == "down":
+            return join_ways(SORT, self.way, down_way(SORT, self.word()))
+        if kind == "goto":
+            return join_ways(SORT, self.way, normal_way(SORT, self.word(), rest[0]))
+        if kind == "show":
+            self.shown.append(format_way(self.way))
+            return self.way
+        sign = 1 if kind == "on" else -1
+        places = [place for place in range(33) if fits(SORT, self.word(), (sign, rest[0], place))]
+        place = (places + [99])[0] if rest[1] is None else rest[1]
+        return self.way[0], self.way[1] + ((sign, rest[0], place),)
+
+
+class TestInterpreted(Case):
+
+    PLAIN = [("write", "bab"), ("write", "baab"), ("write", "bc"), ("on", "R1", None), ("back", "R1", None),
+             ("on", "R1", 0), ("back", "E", 1), ("on", "E", None), ("down",), ("turn",), ("goto", "ab"), ("settle",),
+             ("show", "way")]
+    WORDS = ["", "ba", "bab", "abba", "ab", "b"]
+
+    def statement(self, luck, depth):
+        if depth == 4 or luck.random() < 0.55:
+            return luck.choice(self.PLAIN)
+        body = [self.statement(luck, depth + 1) for _ in range(luck.randint(0, 3))]
+        words = [luck.choice(self.WORDS + ["c"] * (luck.random() < 0.1)) for _ in range(luck.randint(1, 4))]
+        return luck.choice([("repeat", luck.randint(0, 6), body), ("each", words, body),
+                            ("until", luck.choice([None, words[0]]), body)])
+
+    def test_random_loops(self):
+        luck = random.Random(25)
+        depths = {}
+        for _ in range(1500):
+            statements = [self.statement(luck, 0) for _ in range(luck.randint(1, 4))]
+            machine, reference = Machine(SORT, squares=PLAIN), Interpreter()
+            try:
+                reference.run(statements)
+            except Halt as halt:
+                path, = halt.args
+                depths[len(path)] = depths.get(len(path), 0) + 1
+                self.refuses(Stopped(path), machine.run, format_script(statements))
+                self.assertEqual(machine.way, ("", ()))
+            else:
+                depths[0] = depths.get(0, 0) + 1
+                self.assertEqual(machine.run(format_script(statements)), reference.shown)
+                self.assertEqual(machine.way, reference.way)
+        self.assertTrue(all(depths.get(depth, 0) > 10 for depth in range(4)), depths)
 
 
 if __name__ == "__main__":
